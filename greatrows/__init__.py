@@ -1,0 +1,1 @@
+"""Greatrows: endless and great rows, asked for one thing at a time."""

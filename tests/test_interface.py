@@ -1,0 +1,56 @@
+"""The chapter "The interface": names, arguments and the files in which they are defined."""
+
+import importlib
+import inspect
+import unittest
+
+ERRORS = {
+    **{name: "found" for name in (
+        "NoNumber", "NoName", "NoThing", "NoDeeds", "NoTests", "NoPlan", "NoSource", "NoShelf", "NoTruth", "NoList",
+        "NoRow", "NoSpot", "NoWord", "NoLine", "NoPaper", "NoOrder", "Doubled", "NotThere", "NotOpen", "NotShut",
+        "Begun")},
+    "NoText": "at", "Fault": "name, at", "Thrown": "word", "TooMuch": "many", "Waits": "many",
+}
+FUNCTIONS = {
+    "things": {
+        "is_whole": "thing, low, high", "is_name": "thing", "is_thing": "thing", "value_of": "thing",
+        "number_in": "thing, *, least=None, most=None",
+    },
+    "deeds": {
+        "is_deeds": "thing", "is_tests": "thing", "turned_by": "deeds, thing", "tests_hold": "tests, thing",
+        "tests_behind": "tests, deeds", "deeds_text": "deeds", "tests_text": "tests", "read_deeds": "thing",
+        "read_tests": "thing",
+    },
+}
+CLASSES = {
+    "errors": {name: {"__init__": "self, " + fields} for name, fields in ERRORS.items()},
+}
+
+
+def arguments(call):
+    return str(inspect.signature(call))[1:-1]
+
+
+class Interface(unittest.TestCase):
+    def test_functions(self):
+        for file, functions in FUNCTIONS.items():
+            module = importlib.import_module("greatrows." + file)
+            for name, told in functions.items():
+                function = vars(module)[name]
+                self.assertTrue(inspect.isfunction(function))
+                self.assertEqual(function.__module__, module.__name__)
+                self.assertEqual(arguments(function), told, name)
+
+    def test_classes_define_their_methods_themselves(self):
+        for file, classes in CLASSES.items():
+            module = importlib.import_module("greatrows." + file)
+            for name, methods in classes.items():
+                made = vars(module)[name]
+                self.assertTrue(inspect.isclass(made))
+                self.assertEqual(made.__module__, module.__name__)
+                for method, told in methods.items():
+                    self.assertEqual(arguments(vars(made)[method]), told, f"{name}.{method}")
+
+
+if __name__ == "__main__":
+    unittest.main()
