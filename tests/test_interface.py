@@ -21,9 +21,24 @@ FUNCTIONS = {
         "tests_behind": "tests, deeds", "deeds_text": "deeds", "tests_text": "tests", "read_deeds": "thing",
         "read_tests": "thing",
     },
+    "plans": {
+        "is_plan": "thing", "is_leaf": "plan", "parts_of": "plan", "spots_of": "plan", "names_in": "plan",
+        "nodes_in": "plan", "part_at": "plan, spot", "put_at": "plan, spot, other", "renamed": "plan, names",
+    },
+    "plantext": {"plan_text": "plan", "read_plan": "text"},
 }
 CLASSES = {
     "errors": {name: {"__init__": "self, " + fields} for name, fields in ERRORS.items()},
+    "sources": {"Source": {
+        "__init__": "self, things, *, then=None, page=1, faults=None, close_fault=False",
+        "thing": "self, number", "how_many": "self", "told": "self", "__eq__": "self, other",
+    }},
+    "shelves": {"Shelf": {
+        "__init__": "self", "put_up": "self, name, source", "names": "self", "source": "self, name",
+        "open_up": "self, name", "ask": "self, reading", "ask_lot": "self, reading, many", "shut": "self, reading",
+        "place": "self, reading", "name_of": "self, reading", "is_open": "self, thing", "open_ones": "self",
+        "log": "self", "told_of": "self, name", "loads": "self, name", "copied": "self", "__eq__": "self, other",
+    }},
 }
 
 
