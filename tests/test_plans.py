@@ -37,7 +37,7 @@ def all_spots(plan, spot=()):
 
 
 def no_plans():
-    return [thing for thing in odd_things()] + [
+    return odd_things() + [
         list(PLANS[0]), ("from", "a", "b"), ("FROM", "a"), ("sums", 1), ("sums", ["from", "a"]), nest(13), Own(),
         ("sums", None), ("behind", ("from", "a")), ("sums", ("from", "a"), ("from", "b")),
     ]
