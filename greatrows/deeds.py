@@ -28,19 +28,16 @@ def turned_by(deeds, thing):
     """The thing turned by the deeds: itself where there are none, else a number."""
     if not is_deeds(deeds):
         raise NoDeeds(deeds)
-    if deeds:
-        return number_behind(deeds, value_of(thing))
     if not is_thing(thing):
         raise NoThing(thing)
-    return thing
+    return thing_turned(deeds, thing)
 
 
 def tests_hold(tests, thing):
     """Whether each of the tests holds of the thing."""
     if not is_tests(tests):
         raise NoTests(tests)
-    value = value_of(thing)
-    return all([_test_holds(test, value) for test in tests])
+    return all_hold(tests, value_of(thing))
 
 
 def tests_behind(tests, deeds):
@@ -88,6 +85,16 @@ def read_tests(thing):
         return None
     tests = tuple([_read_test(text) for text in thing.split(" and ")])
     return tests if is_tests(tests) else None
+
+
+def thing_turned(deeds, thing):
+    """The thing turned by the deeds, which are known to be some."""
+    return number_behind(deeds, value_of(thing)) if deeds else thing
+
+
+def all_hold(tests, value):
+    """Whether each of the tests, which are known to be some, holds of a value."""
+    return all([_test_holds(test, value) for test in tests])
 
 
 def number_behind(deeds, number):

@@ -26,6 +26,8 @@ FUNCTIONS = {
         "nodes_in": "plan", "part_at": "plan, spot", "put_at": "plan, spot, other", "renamed": "plan, names",
     },
     "plantext": {"plan_text": "plan", "read_plan": "text"},
+    "joins": {"machine_of": "plan"},
+    "rows": {"row_of": "plan, shelf"},
 }
 CLASSES = {
     "errors": {name: {"__init__": "self, " + fields} for name, fields in ERRORS.items()},
@@ -39,6 +41,26 @@ CLASSES = {
         "place": "self, reading", "name_of": "self, reading", "is_open": "self, thing", "open_ones": "self",
         "log": "self", "told_of": "self, name", "loads": "self, name", "copied": "self", "__eq__": "self, other",
     }},
+    "machines": {
+        "Machine": {
+            "__init__": "self", "wants": "self", "takes": "self, at, thing", "ends": "self, at", "ready": "self",
+            "gives": "self", "is_over": "self", "needless": "self", "goes_on": "self, at", "held": "self",
+            "sure": "self, many", "rest": "self", "twin": "self", "stands": "self", "stop": "self", "own": "self",
+            "bare": "self", "lay": "self, other",
+        },
+        "Turned": {"__init__": "self, deeds"}, "Chosen": {"__init__": "self, tests"},
+        "While": {"__init__": "self, tests"}, "Until": {"__init__": "self, tests"}, "First": {"__init__": "self, many"},
+        "Skip": {"__init__": "self, many"}, "Windows": {"__init__": "self, many"}, "Groups": {"__init__": "self, deeds"},
+        "Sums": {"__init__": "self"}, "Flat": {},
+    },
+    "joins": {
+        "Behind": {"__init__": "self"}, "Beside": {"__init__": "self", "rest": "self"}, "Merged": {"__init__": "self"},
+        "Matched": {"__init__": "self, deeds, room"}, "Else": {"__init__": "self"},
+    },
+    "rows": {"Row": {
+        "ask": "self", "throw": "self, word", "close": "self", "not_shut": "self", "is_over": "self",
+        "told_many": "self", "held": "self", "asked": "self", "readings": "self", "rest": "self",
+    }},
 }
 
 
@@ -47,6 +69,9 @@ def arguments(call):
 
 
 class Interface(unittest.TestCase):
+    def test_most_asks(self):
+        self.assertEqual(importlib.import_module("greatrows.rows").MOST_ASKS, 200)
+
     def test_functions(self):
         for file, functions in FUNCTIONS.items():
             module = importlib.import_module("greatrows." + file)
