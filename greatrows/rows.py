@@ -1,9 +1,9 @@
 """Rows: a plan run on a shelf, asked for one thing at a time."""
 
-from greatrows.errors import Fault, NoPlan, NoShelf, NotShut, NotThere, Over, Thrown, TooMuch, Waits
+from greatrows.errors import Fault, NoPlan, NoShelf, NotShut, Over, Thrown, TooMuch, Waits
 from greatrows.joins import machine_of
-from greatrows.plans import INPUTS, is_plan, names_in, nodes_by_spot
-from greatrows.shelves import Shelf
+from greatrows.plans import INPUTS, is_plan, nodes_by_spot
+from greatrows.shelves import Shelf, check_names
 
 MOST_ASKS = 200
 
@@ -16,14 +16,6 @@ def row_of(plan, shelf):
         raise NoShelf(shelf)
     check_names(plan, shelf)
     return Row(plan, shelf)
-
-
-def check_names(plan, shelf):
-    """Refuses a plan with a source that the shelf hasn't, by the first such name."""
-    names = shelf.names()
-    for name in names_in(plan):
-        if name not in names:
-            raise NotThere(name)
 
 
 class Row:

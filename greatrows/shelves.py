@@ -1,6 +1,7 @@
 """Shelves of sources, and the readings of these."""
 
 from greatrows.errors import Doubled, Fault, NoName, NoNumber, NoSource, NotOpen, NotShut, NotThere, Over, TooMuch
+from greatrows.plans import names_in
 from greatrows.sources import Source
 from greatrows.things import is_name, is_whole
 
@@ -157,6 +158,14 @@ class Shelf:
         if page == asked.pages:
             asked.pages += 1
             self._log.append(("load", number, page))
+
+
+def check_names(plan, shelf):
+    """Refuses a plan that names a source which the shelf hasn't, by the first such name."""
+    names = shelf.names()
+    for name in names_in(plan):
+        if name not in names:
+            raise NotThere(name)
 
 
 class Reading:

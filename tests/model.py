@@ -10,11 +10,16 @@ from greatrows.sources import Source
 from greatrows.things import value_of
 
 
+class Open(Exception):
+    """A leaf would be asked for more things than it may be."""
+
+
 class Run:
     """A plan run on a shelf, asked as a row is, but never refused with Waits."""
 
-    def __init__(self, plan, shelf):
+    def __init__(self, plan, shelf, most=None):
         self.shelf = shelf
+        self.most = most
         self.opened = []
         self.not_shut = []
         self.asked = {}
@@ -39,6 +44,8 @@ class Run:
             found = ("much", fault.many)
         except Thrown as fault:
             found = ("thrown", fault.word)
+        except Open:
+            found = ("open",)
         self.is_over = True
         self.shut(())
         return found
@@ -74,14 +81,14 @@ class Run:
         if plan[0] == "count":
             _, start, step, many = plan
             while many is None or self.asked[spot] < many:
-                self.check_word()
+                self.check_ask(spot)
                 self.asked[spot] += 1
                 yield start + step * (self.asked[spot] - 1)
-            self.check_word()
+            self.check_ask(spot)
             return
         tries = 0
         while True:
-            self.check_word()
+            self.check_ask(spot)
             if spot not in self.readings:
                 self.readings[spot] = self.shelf.open_up(plan[-1])
                 self.opened.append(spot)
@@ -99,9 +106,11 @@ class Run:
             self.asked[spot] += 1
             yield thing
 
-    def check_word(self):
+    def check_ask(self, spot):
         if self.words:
             raise Thrown(self.words.pop())
+        if self.asked[spot] == self.most:
+            raise Open()
 
     def turned(self, spot, deeds, things):
         for thing in things:

@@ -28,6 +28,8 @@ FUNCTIONS = {
     "plantext": {"plan_text": "plan", "read_plan": "text"},
     "joins": {"machine_of": "plan"},
     "rows": {"row_of": "plan, shelf"},
+    "plain": {"plain_told": "plan, shelf, many", "needs_told": "plan, shelf, many"},
+    "runlogs": {"log_due": "plan, shelf, many", "first_unlike": "plan, shelf, many, log"},
 }
 CLASSES = {
     "errors": {name: {"__init__": "self, " + fields} for name, fields in ERRORS.items()},
@@ -60,6 +62,21 @@ CLASSES = {
     "rows": {"Row": {
         "ask": "self", "throw": "self, word", "close": "self", "not_shut": "self", "is_over": "self",
         "told_many": "self", "held": "self", "asked": "self", "readings": "self", "rest": "self",
+    }},
+    "parted": {
+        "Reader": {"__init__": "self", "ask": "self", "close": "self", "is_over": "self", "place": "self"}, "Hand": {},
+        "Parted": {
+            "__init__": "self, row, many, *, room=None", "hand": "self, number", "hands": "self", "held": "self",
+            "told_many": "self",
+        },
+        "Kinds": {
+            "__init__": "self, row, deeds, *, room=None", "hand": "self, kind", "kinds": "self", "held": "self",
+            "waiting": "self, kind", "close": "self",
+        },
+    },
+    "keeping": {"Kept": {
+        "__init__": "self, row, *, room=None", "mark": "self", "back": "self, mark", "release": "self, mark",
+        "marks": "self", "held": "self",
     }},
 }
 
