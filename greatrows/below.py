@@ -61,17 +61,18 @@ class Held(Below):
 
     def thing_at(self, place, least):
         """The thing at a place, at most the next one that the reader tells; those from the least place on are held."""
-        self._things = self._things[len(self._things) - (self.many - least):]
+        held = self.held_from(least)
         if place < self.many:
             # The last thing that is held is the last one that was told.
             return self._things[place - self.many]
         if self.has_ended():
             self.end_again()
-        if self._room is not None and self.many - least == self._room:
+        if held == self._room:
             raise Waits(self._room)
         self._things.append(self.next_thing())
         return self._things[-1]
 
     def held_from(self, least):
-        """How many things are held from the least place on."""
-        return self.many - least
+        """How many things are held, where they are held from the least place on."""
+        self._things = self._things[len(self._things) - (self.many - least):]
+        return len(self._things)

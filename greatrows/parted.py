@@ -173,7 +173,7 @@ class Kinds:
         while not self._lying.get(text):
             if self._is_closed or text in self._closed or self._below.has_ended():
                 raise Over()
-            if self._room is not None and self.held() == self._room:
+            if self.held() == self._room:
                 raise Waits(self._room)
             if asks == MOST_ASKS:
                 raise Waits(MOST_ASKS)

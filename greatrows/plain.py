@@ -100,7 +100,7 @@ def _count_told(plan, most):
 def _source_told(plan, shelf, most):
     source = shelf.source(plan[-1])
     many = source.how_many()
-    faults = {at: asks for at, asks in source.told()[3]}
+    faults = dict(source.told()[3])
     tries = plan[1] if plan[0] == "again" else 0
     things = []
     for at in range(most):

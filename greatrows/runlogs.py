@@ -49,4 +49,4 @@ def _fresh(shelf):
 
 def _is_like(row, due):
     # A truth is equal to a number, but it is none.
-    return isinstance(row, tuple) and row == due and not any([isinstance(part, bool) for part in row])
+    return row == due and not any([isinstance(part, bool) for part in row])

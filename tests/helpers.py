@@ -4,6 +4,7 @@ import copy
 import unittest
 
 from greatrows import errors
+from greatrows.shelves import Shelf
 
 
 class Own:
@@ -44,6 +45,32 @@ class Case(unittest.TestCase):
     def check_told(self, told, expected):
         """What is told is equal, truths being no numbers, lists no tuples."""
         self.assertEqual(shown(told), shown(expected))
+
+
+def shelf_of(**sources):
+    """A shelf of these sources."""
+    shelf = Shelf()
+    for name, source in sources.items():
+        shelf.put_up(name, source)
+    return shelf
+
+
+def answer(call, *args):
+    """What came of a call, as a tuple."""
+    try:
+        return ("thing", call(*args))
+    except errors.Over:
+        return ("over",)
+    except errors.Fault as fault:
+        return ("fault", fault.name, fault.at)
+    except errors.TooMuch as much:
+        return ("much", much.many)
+    except errors.Thrown as thrown:
+        return ("thrown", thrown.word)
+    except errors.Waits as waits:
+        return ("waits", waits.many)
+    except errors.NotShut as caught:
+        return ("not shut", caught.found)
 
 
 def shown(thing):

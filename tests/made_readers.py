@@ -1,10 +1,11 @@
 """What the tests of readers share: rows to stand on, and what comes of them."""
 
-from greatrows.errors import Fault, NotShut, Over, Thrown, TooMuch, Waits
+from greatrows.errors import NotShut, Over
 from greatrows.keeping import Kept
 from greatrows.parted import Kinds, Parted, Reader
 from greatrows.rows import Row, row_of
 from greatrows.shelves import Shelf
+from helpers import answer
 from model import runs
 
 ON = (("add", 1),)
@@ -39,31 +40,6 @@ class Told(Reader):
         Reader.close(self)
         if self.bad:
             raise NotShut(list(self.bad))
-
-
-def shelf_of(**sources):
-    shelf = Shelf()
-    for name, source in sources.items():
-        shelf.put_up(name, source)
-    return shelf
-
-
-def answer(call, *args):
-    """What came of a call, as a tuple."""
-    try:
-        return ("thing", call(*args))
-    except Over:
-        return ("over",)
-    except Fault as fault:
-        return ("fault", fault.name, fault.at)
-    except TooMuch as much:
-        return ("much", much.many)
-    except Thrown as thrown:
-        return ("thrown", thrown.word)
-    except Waits as waits:
-        return ("waits", waits.many)
-    except NotShut as caught:
-        return ("not shut", caught.found)
 
 
 def outcomes(plan, shelf, many):

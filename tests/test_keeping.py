@@ -8,8 +8,8 @@ from greatrows.parted import Reader
 from greatrows.rows import row_of
 from greatrows.shelves import Shelf
 from greatrows.sources import Source
-from helpers import Case, odd_things
-from made_readers import A, B, COUNT, ON, Told, answer, is_reader, is_room, readers, shelf_of, some_reader
+from helpers import Case, answer, odd_things, shelf_of
+from made_readers import A, B, COUNT, ON, Told, is_reader, is_room, readers, some_reader
 
 
 class Account:

@@ -12,8 +12,8 @@ from greatrows.rows import row_of
 from greatrows.shelves import Shelf
 from greatrows.sources import Source
 from greatrows.things import is_thing, is_whole
-from helpers import Case, odd_things, shown
-from made_readers import A, B, COUNT, ON, Told, answer, is_reader, is_room, readers, shelf_of, some_reader
+from helpers import Case, answer, odd_things, shelf_of, shown
+from made_readers import A, B, COUNT, ON, Told, is_reader, is_room, readers, some_reader
 
 HALF = (("rest", 2),)
 
@@ -459,6 +459,16 @@ class ByKinds(Case):
         kinds = Kinds(reader, ())
         answer(kinds.hand(1).ask)
         self.check_told([kinds.close(), reader.closings], [None, 0])
+
+    def test_nothing_is_asked_of_the_reader_behind_a_close(self):
+        reader = Told([1, 2])
+        kinds = Kinds(reader, ())
+        hand = kinds.hand(2)
+        kinds.close()
+        self.check_told([answer(hand.ask), answer(kinds.hand(1).ask), reader.asks], [("over",), ("over",), 0])
+        kinds = Kinds(reader, ())
+        kinds.hand(2).close()
+        self.check_told([answer(kinds.hand(2).ask), reader.asks], [("over",), 0])
 
     def test_a_close_ahead_of_the_end_of_what_waits(self):
         reader = Told([1, 2])

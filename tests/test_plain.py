@@ -9,7 +9,7 @@ from greatrows.rows import row_of
 from greatrows.shelves import Shelf
 from greatrows.sources import Source
 from greatrows.things import is_whole
-from helpers import Case, odd_things, shown
+from helpers import Case, odd_things, shelf_of, shown
 from made_plans import EDGES, PLANS
 from model import Run, runs
 
@@ -18,13 +18,6 @@ NEVER = (((), "below", 0, True),)
 ODD = (((("rest", 2),), "is", 1, True),)
 COUNT = ("count", 0, 1, None)
 A, B = ("from", "a"), ("from", "b")
-
-
-def shelf_of(**sources):
-    shelf = Shelf()
-    for name, source in sources.items():
-        shelf.put_up(name, source)
-    return shelf
 
 
 def modelled(plan, shelf, many):

@@ -2,12 +2,12 @@
 
 import unittest
 
-from greatrows.errors import Fault, NoPlan, NoShelf, NotShut, NotThere, Over, Thrown, TooMuch, Waits
+from greatrows.errors import Fault, NoPlan, NoShelf, NotShut, NotThere, Over, Thrown, Waits
 from greatrows.plans import is_plan, names_in, nodes_in
 from greatrows.rows import MOST_ASKS, Row, row_of
 from greatrows.shelves import Shelf
 from greatrows.sources import Source
-from helpers import Case, odd_things, shown
+from helpers import Case, answer, odd_things, shelf_of, shown
 from made_plans import EDGES, PLANS
 from model import Run, runs
 
@@ -15,31 +15,6 @@ ON = (("add", 1),)
 BIG = 10 ** 29
 NEVER = (((), "below", -1, True),)
 ODD = (((("rest", 2),), "is", 1, True),)
-
-
-def shelf_of(**sources):
-    shelf = Shelf()
-    for name, source in sources.items():
-        shelf.put_up(name, source)
-    return shelf
-
-
-def answer(call, *args):
-    """What came of a call, as a tuple."""
-    try:
-        return ("thing", call(*args))
-    except Over:
-        return ("over",)
-    except Fault as fault:
-        return ("fault", fault.name, fault.at)
-    except TooMuch as much:
-        return ("much", much.many)
-    except Thrown as thrown:
-        return ("thrown", thrown.word)
-    except Waits as waits:
-        return ("waits", waits.many)
-    except NotShut as caught:
-        return ("not shut", caught.found)
 
 
 def things_of(row, most=60):

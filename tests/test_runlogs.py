@@ -7,10 +7,9 @@ from greatrows.plain import plain_told
 from greatrows.plans import is_plan
 from greatrows.rows import row_of
 from greatrows.runlogs import first_unlike, log_due
-from greatrows.shelves import Shelf
 from greatrows.sources import Source
 from greatrows.things import is_whole
-from helpers import Case, odd_things, shown
+from helpers import Case, odd_things, shelf_of, shown
 from model import Run, runs
 
 ON = (("add", 1),)
@@ -19,13 +18,6 @@ ODD = (((("rest", 2),), "is", 1, True),)
 COUNT = ("count", 0, 1, None)
 OPEN = ("chosen", NEVER, COUNT)
 A, B, C = ("from", "a"), ("from", "b"), ("from", "c")
-
-
-def shelf_of(**sources):
-    shelf = Shelf()
-    for name, source in sources.items():
-        shelf.put_up(name, source)
-    return shelf
 
 
 def full_shelf():
