@@ -101,11 +101,11 @@ class Merged(Machine):
 
     def takes(self, at, thing):
         self._kept[at] = thing
-        self._lay_lesser()
+        self._choose_lesser()
 
     def ends(self, at):
         self._ended[at] = True
-        self._lay_lesser()
+        self._choose_lesser()
         self.is_done = self._ended == [True, True]
 
     def held(self):
@@ -130,7 +130,7 @@ class Merged(Machine):
         lacked = [at for at in (0, 1) if self._kept[at] is None and not self._ended[at]]
         return lacked[0] if lacked else None
 
-    def _lay_lesser(self):
+    def _choose_lesser(self):
         kept = self._kept_at()
         if kept and self._lacked() is None:
             at = min(kept, key=lambda one: value_of(self._kept[one]))

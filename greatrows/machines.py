@@ -280,14 +280,14 @@ class Groups(Machine):
 
     def takes(self, at, thing):
         if self._kept and thing_turned(self._deeds, self._kept[0]) != thing_turned(self._deeds, thing):
-            self._lay_kept()
+            self._end_group()
         self._kept.append(thing)
         if len(self._kept) == MOST_OF_GROUP:
-            self._lay_kept()
+            self._end_group()
 
     def ends(self, at):
         if self._kept:
-            self._lay_kept()
+            self._end_group()
         self.is_done = True
 
     def held(self):
@@ -302,7 +302,7 @@ class Groups(Machine):
     def lay(self, other):
         other._kept = list(self._kept)
 
-    def _lay_kept(self):
+    def _end_group(self):
         self.lying.append(tuple(self._kept))
         self._kept = []
 

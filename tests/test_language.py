@@ -29,6 +29,9 @@ LIBRARY = {
     "itertools": {"product", "combinations", "permutations"},
 }
 NEVER = {"register", "mro", "elements", "open", "input", "law", "version_info", "with_traceback", "add_note"}
+# Rule L12: what no name begins with, and what none is, also with figures or underscores behind it.
+BEGINNINGS = ("_wall", "_pe_", "_dcw_", "_enum_", "_cm_", "_twin_re_", "_lay_", "_law_", "_stub_", "_sre", "_WallAttr")
+BARRED_NAMES = ("_cold", "_tuplegetter", "_outside", "_record", "_written_out", "_member_names")
 BARRED_STATEMENTS = (
     ast.Global, ast.AsyncFunctionDef, ast.AsyncFor, ast.AsyncWith, ast.Await, ast.Import, ast.TryStar, ast.AnnAssign,
 )
@@ -57,6 +60,83 @@ def docstrings(tree):
         if isinstance(node, (ast.Module, ast.ClassDef, ast.FunctionDef)) and ast.get_docstring(node) is not None:
             found.append(node.body[0].value)
     return found
+
+
+def names_in(tree):
+    """Tuples (name, whether it is that of an attribute or a method) of all names in a file, those of `__slots__` too."""
+    found = []
+    methods = [node for made in ast.walk(tree) if isinstance(made, ast.ClassDef) for node in made.body]
+    for node in ast.walk(tree):
+        if isinstance(node, ast.FunctionDef):
+            found.append((node.name, node in methods))
+        elif isinstance(node, ast.Attribute):
+            found.append((node.attr, True))
+        elif isinstance(node, ast.ImportFrom):
+            found.extend((part, False) for part in (node.module or "").split("."))
+        elif isinstance(node, ast.Assign) and ast.unparse(node.targets[0]) == "__slots__":
+            found.extend((each.value, True) for each in ast.walk(node.value) if isinstance(each, ast.Constant))
+        told = [getattr(node, field, None) for field in ("id", "arg", "asname", "rest")]
+        if isinstance(node, (ast.ClassDef, ast.alias, ast.ExceptHandler, ast.MatchAs, ast.MatchStar)):
+            told.append(node.name)
+        if isinstance(node, (ast.Global, ast.Nonlocal)):
+            told.extend(node.names)
+        found.extend((name, False) for name in told if isinstance(name, str))
+    return found
+
+
+def is_barred(name, is_of_object):
+    """Whether rule L12 bars a name; but for one beginning, those of attributes and methods like all others."""
+    beginnings = [each for each in BEGINNINGS if each != "_wall" or not is_of_object]
+    if name == "_wall" or name.startswith(tuple(beginnings)):
+        return True
+    return name.rstrip("0123456789_") in BARRED_NAMES
+
+
+def barred_in(text):
+    """The barred names of a file, and the words that stand in none."""
+    found = [name for name, is_of_object in names_in(ast.parse(text)) if is_barred(name, is_of_object)]
+    return found + re.findall(r"\b_wall\b|_WallAttr", text)
+
+
+class Names(unittest.TestCase):
+    def test_no_file_has_a_barred_name(self):
+        for path in files():
+            if path.suffix == ".py":
+                self.assertEqual(barred_in(path.read_text()), [], path.name)
+                self.assertFalse(is_barred(path.stem, False), path.name)
+
+    def test_names_are_plain(self):
+        for path, tree in trees():
+            for name, _ in names_in(tree):
+                if name not in DOUBLE:
+                    self.assertRegex(name, r"\A(_?[A-Za-z][A-Za-z0-9_]*|_)\Z", path.name)
+
+    def test_each_barred_name_is_found_wherever_a_name_stands(self):
+        forms = (
+            "{} = 1", "def {}():\n    pass", "class C:\n    def {}(self):\n        pass", "class {}:\n    pass",
+            "def f(x):\n    x.{} = 1", "def f(x):\n    return x.{}", "def f(x):\n    x.{}()", "def f({}):\n    pass",
+            "def f(*{}):\n    pass", "def f(**{}):\n    pass", "def f(*, {}=1):\n    pass", "def f():\n    g({}=1)",
+            "def f():\n    for {} in []:\n        pass", "def f():\n    return [1 for {} in []]", "from a.b import {}",
+            "from a.{} import b", "from a import b as {}", "def f():\n    return lambda {}: 1",
+            "def f():\n    if ({} := 1):\n        pass", "def f():\n    try:\n        pass\n    except E as {}:\n        pass",
+            "def f(x):\n    match x:\n        case {}:\n            pass",
+            "def f(x):\n    match x:\n        case [*{}]:\n            pass", "def f():\n    def g():\n        nonlocal {}",
+            "class C:\n    __slots__ = ('{}',)", "class C:\n    {} = 1",
+        )
+        names = [each + "x" for each in BEGINNINGS] + [each for each in BEGINNINGS if each != "_wall"]
+        names.extend(each + more for each in BARRED_NAMES for more in ("", "1", "_", "_2", "__"))
+        for form in forms:
+            for name in names:
+                text = form.format(name)
+                is_free = name == "_wallx" and any(each in form for each in ("x.{}", "C:\n    def", "__slots__"))
+                self.assertEqual(name in barred_in(text), not is_free, text)
+
+    def test_names_that_are_free_and_words_that_stand_nowhere(self):
+        for name in ("lay", "_lays", "_kept", "_laws", "_pets", "_enumerated", "_colder", "_records", "_outsider", "_walks"):
+            self.assertEqual(barred_in(f"def {name}():\n    pass"), [], name)
+        for text in ("# a _wall", "'_wall'", "x = '_WallAttr'", "# _WallAttrs"):
+            self.assertEqual(len(barred_in(text)), 1, text)
+        self.assertEqual(barred_in("def f(x):\n    return x._walls"), [])
 
 
 class Form(unittest.TestCase):
