@@ -1,6 +1,7 @@
 """What readers stand on: another reader, what it told and is held yet, and how it ended."""
 
-from greatrows.errors import Fault, Over, Thrown, TooMuch, Waits
+from greatrows.endings import came_of, refuse
+from greatrows.errors import Waits
 
 
 class Below:
@@ -13,22 +14,13 @@ class Below:
 
     def next_thing(self):
         """The reader's next thing; its end or fault goes out, and is kept."""
-        try:
-            thing = self._reader.ask()
-        except Over:
-            self._ending = ("over",)
-            raise
-        except Fault as fault:
-            self._ending = ("fault", fault.name, fault.at)
-            raise
-        except TooMuch as much:
-            self._ending = ("much", much.many)
-            raise
-        except Thrown as thrown:
-            self._ending = ("thrown", thrown.word)
-            raise
+        came = came_of(lambda: self._reader.ask())
+        if came[0] not in ("thing", "waits"):
+            self._ending = came
+        if came[0] != "thing":
+            refuse(came)
         self.many += 1
-        return thing
+        return came[1]
 
     def has_ended(self):
         """Whether its end or fault was met."""
@@ -36,14 +28,7 @@ class Below:
 
     def end_again(self):
         """Refuses as the reader did at its end or fault."""
-        word, *fields = self._ending
-        if word == "fault":
-            raise Fault(fields[0], fields[1])
-        if word == "much":
-            raise TooMuch(fields[0])
-        if word == "thrown":
-            raise Thrown(fields[0])
-        raise Over()
+        refuse(self._ending)
 
     def close(self):
         """Closes the reader, where it isn't over."""

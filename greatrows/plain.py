@@ -1,9 +1,9 @@
 """The plain reckoner: whole lists of what plans tell, and how many things of their leaves that needs."""
 
 from greatrows.deeds import all_hold, thing_turned
-from greatrows.errors import NoNumber, NoPlan, NoShelf
-from greatrows.plans import INPUTS, inputs_of, is_plan
-from greatrows.shelves import Shelf, check_names
+from greatrows.errors import NoNumber
+from greatrows.plans import INPUTS, inputs_of, tries_of
+from greatrows.shelves import check_grounds, check_names
 from greatrows.things import is_whole, value_of
 
 MOST_OF_LEAF = 1600
@@ -20,27 +20,31 @@ def plain_told(plan, shelf, many):
     """The first so many things that the plan tells, and how it goes on behind them."""
     check_asked(plan, shelf, many)
     check_names(plan, shelf)
-    whole = _whole_of(plan, shelf, many)
-    if len(whole.things) < many:
-        return whole.things, whole.ending
-    return whole.things[:many], "more"
+    things, word, _ = all_told(plan, shelf, many)
+    return things, word
 
 
 def needs_told(plan, shelf, many):
     """How many things each leaf is asked for until so many things are told, by the leaves' spots."""
     check_asked(plan, shelf, many)
     check_names(plan, shelf)
+    _, _, needs = all_told(plan, shelf, many)
+    return needs
+
+
+def all_told(plan, shelf, many):
+    """The first so many things, how it goes on behind them, and how many things each leaf is asked for."""
     whole = _whole_of(plan, shelf, many)
     asks = min(many, len(whole.things) + 1)
-    return {spot: things for spot, things in _needs_of(whole, (), asks)}
+    needs = {spot: things for spot, things in _needs_of(whole, (), asks)}
+    if len(whole.things) < many:
+        return whole.things, whole.ending, needs
+    return whole.things[:many], "more", needs
 
 
 def check_asked(plan, shelf, many):
     """Refuses what no plan, shelf or number of things may be."""
-    if not is_plan(plan):
-        raise NoPlan(plan)
-    if not isinstance(shelf, Shelf):
-        raise NoShelf(shelf)
+    check_grounds(plan, shelf)
     if not is_whole(many, 0, MOST_TOLD):
         raise NoNumber(many)
 
@@ -64,7 +68,7 @@ def _whole_of(plan, shelf, many):
     most = FEW_OF_LEAF
     whole = _part_of(plan, shelf, most)
     while whole.ending == OPEN and len(whole.things) < many and most < MOST_OF_LEAF:
-        most = most * 4
+        most = most * 8
         whole = _part_of(plan, shelf, most)
     return whole
 
@@ -101,7 +105,7 @@ def _source_told(plan, shelf, most):
     source = shelf.source(plan[-1])
     many = source.how_many()
     faults = dict(source.told()[3])
-    tries = plan[1] if plan[0] == "again" else 0
+    tries = tries_of(plan)
     things = []
     for at in range(most):
         if at == many:
@@ -225,23 +229,24 @@ def _beside(_, one, other):
 
 
 def _merged(_, one, other):
+    ones = [value_of(thing) for thing in one.things]
+    others = [value_of(thing) for thing in other.things]
     pairs = []
     first, second = 0, 0
     while True:
         asks = (first + 1, second + 1)
-        if first == len(one.things) and one.ending != OVER:
+        if first == len(ones) and one.ending != OVER:
             # Input 1 is asked ahead of this ending just where something was told.
             return pairs, one.ending, asks if pairs else (1, 0)
-        if second == len(other.things) and other.ending != OVER:
+        if second == len(others) and other.ending != OVER:
             return pairs, other.ending, asks
-        heads = [*one.things[first:first + 1], *other.things[second:second + 1]]
-        if not heads:
+        if first == len(ones) and second == len(others):
             return pairs, OVER, asks
-        least = min(heads, key=value_of)
-        pairs.append((least, asks))
-        if first < len(one.things) and value_of(one.things[first]) == value_of(least):
+        if second == len(others) or (first < len(ones) and ones[first] <= others[second]):
+            pairs.append((one.things[first], asks))
             first += 1
         else:
+            pairs.append((other.things[second], asks))
             second += 1
 
 

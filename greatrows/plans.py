@@ -75,7 +75,7 @@ def part_at(plan, spot):
     """The plan at a spot."""
     if not is_plan(plan):
         raise NoPlan(plan)
-    if not _is_spot(plan, spot):
+    if not is_spot_in(spots_of(plan), spot):
         raise NoSpot(spot)
     part = plan
     for at in spot:
@@ -122,6 +122,17 @@ def inputs_of(node):
     return list(node[len(node) - INPUTS[node[0]]:])
 
 
+def tries_of(leaf):
+    """How often a leaf asks again for a thing that faults."""
+    return leaf[1] if leaf[0] == "again" else 0
+
+
+def is_spot_in(spots, thing):
+    """Whether it is one of these spots."""
+    # A truth is equal to a number, so being in the list isn't enough.
+    return isinstance(thing, tuple) and all([is_whole(part, 0, 1) for part in thing]) and thing in spots
+
+
 def nodes_by_spot(plan):
     """Tuples (spot, the part there) of all that is in the plan, in the order of the spots."""
     found = [((), plan)]
@@ -141,13 +152,6 @@ def _is_node(thing):
     if len(thing) != 1 + len(kinds) + INPUTS[word]:
         return False
     return all([fits(kind, part) for kind, part in zip(kinds, thing[1:])])
-
-
-def _is_spot(plan, thing):
-    # A truth is equal to a number, so being in the list of the spots isn't enough.
-    if not isinstance(thing, tuple) or not all([is_whole(part, 0, 1) for part in thing]):
-        return False
-    return thing in spots_of(plan)
 
 
 def _is_naming(thing):

@@ -3,7 +3,7 @@
 from greatrows.errors import Fault, NoList, NotShut, Over, TooMuch, Waits
 from greatrows.plain import MOST_OF_LEAF, OPEN, check_asked, plain_told
 from greatrows.rows import row_of
-from greatrows.shelves import Shelf
+from greatrows.shelves import fresh_shelf
 
 
 def log_due(plan, shelf, many):
@@ -11,7 +11,7 @@ def log_due(plan, shelf, many):
     _, word = plain_told(plan, shelf, many)
     if word == OPEN:
         raise Waits(MOST_OF_LEAF)
-    fresh = _fresh(shelf)
+    fresh = fresh_shelf(shelf)
     row = row_of(plan, fresh)
     while row.told_many() < many and not row.is_over():
         try:
@@ -37,14 +37,6 @@ def first_unlike(plan, shelf, many, log):
         if at == len(due) or not _is_like(row, due[at]):
             return at
     return len(log) if len(log) < len(due) else None
-
-
-def _fresh(shelf):
-    """A shelf of the same sources, on which nothing was opened."""
-    other = Shelf()
-    for name in shelf.names():
-        other.put_up(name, shelf.source(name))
-    return other
 
 
 def _is_like(row, due):

@@ -1,7 +1,9 @@
 """Shelves of sources, and the readings of these."""
 
-from greatrows.errors import Doubled, Fault, NoName, NoNumber, NoSource, NotOpen, NotShut, NotThere, Over, TooMuch
-from greatrows.plans import names_in
+from greatrows.errors import (
+    Doubled, Fault, NoName, NoNumber, NoPlan, NoShelf, NoSource, NotOpen, NotShut, NotThere, Over, TooMuch,
+)
+from greatrows.plans import is_plan, names_in
 from greatrows.sources import Source
 from greatrows.things import is_name, is_whole
 
@@ -158,6 +160,22 @@ class Shelf:
         if page == asked.pages:
             asked.pages += 1
             self._log.append(("load", number, page))
+
+
+def fresh_shelf(shelf):
+    """A shelf of the same sources, on which nothing was opened."""
+    other = Shelf()
+    for name in shelf.names():
+        other.put_up(name, shelf.source(name))
+    return other
+
+
+def check_grounds(plan, shelf):
+    """Refuses what is no plan, and what is no shelf."""
+    if not is_plan(plan):
+        raise NoPlan(plan)
+    if not isinstance(shelf, Shelf):
+        raise NoShelf(shelf)
 
 
 def check_names(plan, shelf):

@@ -37,6 +37,8 @@ def is_thing(thing):
 
 def value_of(thing):
     """A number itself; the sum of the values of a tuple's things."""
+    if is_whole(thing, None, None):
+        return thing
     total = 0
     unseen = [thing]
     while unseen:

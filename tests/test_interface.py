@@ -30,6 +30,9 @@ FUNCTIONS = {
     "rows": {"row_of": "plan, shelf"},
     "plain": {"plain_told": "plan, shelf, many", "needs_told": "plan, shelf, many"},
     "runlogs": {"log_due": "plan, shelf, many", "first_unlike": "plan, shelf, many, log"},
+    "orders": {
+        "ends_by_turns": "plan, shelf, many, *, room=1", "shows_turns": "plan, shelf, many, thing, *, room=1",
+    },
 }
 CLASSES = {
     "errors": {name: {"__init__": "self, " + fields} for name, fields in ERRORS.items()},
@@ -77,6 +80,15 @@ CLASSES = {
     "keeping": {"Kept": {
         "__init__": "self, row, *, room=None", "mark": "self", "back": "self, mark", "release": "self, mark",
         "marks": "self", "held": "self",
+    }},
+    "lots": {"Lots": {
+        "__init__": "self, plan, shelf", "lot": "self, many", "close": "self", "not_shut": "self", "is_over": "self",
+        "told_many": "self", "asked": "self", "readings": "self",
+    }},
+    "hands": {"Hands": {
+        "__init__": "self, plan, shelf, *, room=1", "turn": "self, spot", "close": "self", "told": "self",
+        "not_shut": "self", "ending": "self", "waiting": "self", "asked": "self", "run": "self, order, many",
+        "copied": "self",
     }},
 }
 
