@@ -7,7 +7,7 @@ from greatrows.rows import MOST_ASKS
 from greatrows.shelves import MOST_OF_LOT, check_grounds, check_names
 from greatrows.things import is_whole
 
-WAITS = ("waits", MOST_ASKS)
+WAITS = "waits"
 
 
 class Lots:
@@ -42,7 +42,7 @@ class Lots:
         if self._has_ended:
             raise Over()
         things, ending = self._whole_lot(many)
-        if ending is not None and ending != WAITS:
+        if ending is not None and ending[0] != WAITS:
             self._finish()
         if ending is not None and not things:
             refuse(ending)
@@ -87,7 +87,7 @@ class Lots:
                 things.append(thing)
                 self._base = max(self._base, stamp)
             # A leaf waits where two hundred asks may have told nothing; now it is known what they told.
-            if ending == WAITS and self._asks_left() > 0:
+            if ending is not None and ending[0] == WAITS and self._asks_left() > 0:
                 ending = None
         return things, ending
 
@@ -116,7 +116,7 @@ class Lots:
                 return ("much", much.many)
             self._hear(spot, machine, stamp)
             pairs.extend(self._given(spot, machine, many - len(pairs)))
-        if ending is None or ending == WAITS:
+        if ending is None or ending[0] == WAITS:
             return ending
         if ending == OVER:
             machine.ends(at)
@@ -144,7 +144,7 @@ class Lots:
         while len(pairs) < many:
             most = min(many - len(pairs), self._asks_left())
             if most == 0:
-                return pairs, WAITS
+                return pairs, (WAITS, MOST_ASKS)
             try:
                 things = self._nodes.ask_leaf(spot, most)
             except Fault as fault:

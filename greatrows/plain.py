@@ -165,8 +165,8 @@ def _skip(plan, part):
 
 def _windows(plan, part):
     many = plan[1]
-    begins = range(len(part.things) - many + 1)
-    return _all_told([(tuple(part.things[at:at + many]), (at + many,)) for at in begins], part)
+    ends = [at + many for at in range(len(part.things) - many + 1)]
+    return _all_told([(tuple(part.things[end - many:end]), (end,)) for end in ends], part)
 
 
 def _groups(plan, part):

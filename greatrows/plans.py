@@ -91,7 +91,7 @@ def put_at(plan, spot, other):
     many = nodes_in(plan) - nodes_in(taken) + nodes_in(other)
     if many > MOST_NODES:
         raise TooMuch(many)
-    return _replaced(plan, spot, other)
+    return replaced(plan, spot, other)
 
 
 def renamed(plan, names):
@@ -141,6 +141,15 @@ def nodes_by_spot(plan):
     return found
 
 
+def replaced(plan, spot, other):
+    """The plan, with another one at a spot, which is known to be one of it."""
+    if not spot:
+        return other
+    parts = inputs_of(plan)
+    parts[spot[0]] = replaced(parts[spot[0]], spot[1:], other)
+    return _with_inputs(plan, parts)
+
+
 def _is_node(thing):
     """Whether it is a plan as far as its own tuple tells, whatever its inputs are."""
     if not isinstance(thing, tuple) or not thing:
@@ -166,14 +175,6 @@ def _has_name(node):
 
 def _with_inputs(node, parts):
     return (*node[:len(node) - len(parts)], *parts)
-
-
-def _replaced(plan, spot, other):
-    if not spot:
-        return other
-    parts = inputs_of(plan)
-    parts[spot[0]] = _replaced(parts[spot[0]], spot[1:], other)
-    return _with_inputs(plan, parts)
 
 
 def _called(plan, names):

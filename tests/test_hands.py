@@ -107,7 +107,8 @@ class Whole(Case):
             hands.run(spots_of(plan), 5)
             things, word = plain_told(plan, shelf, 5)
             if word != "open":
-                self.check_told([hands.told(), (hands.ending() or ("more",))[0].replace("much", "fault")], [things, word])
+                self.check_told([hands.told(), (hands.ending() or ("more",))[0].replace("much", "fault")],
+                    [things, word])
 
     def test_at_most_what_rooms_hold_more_is_asked(self):
         for chance, plan, shelf in runs(300, seed=106):
@@ -170,7 +171,8 @@ class Turns(Case):
         self.check_told(shelf.log()[-1], ("fault", 0, 1))
         # It gives what lies ready, then takes the fault, by which all inputs are done with, then gives the fault.
         self.check_told([turns(hands, ()), hands.told(), shelf.open_ones()], [[True], [5], [0]])
-        self.check_told([turns(hands, ()), hands.ending(), shelf.open_ones(), hands.waiting()], [[True], None, [], {(0,): 0}])
+        self.check_told([turns(hands, ()), hands.ending(), shelf.open_ones(), hands.waiting()],
+            [[True], None, [], {(0,): 0}])
         self.check_told([turns(hands, (), (), (0,)), hands.ending()], [[True, False, False], ("fault", "a", 1)])
 
     def test_again_tries_in_one_turn(self):
@@ -207,7 +209,8 @@ class Turns(Case):
         hands.run([(0, 0), (0,), ()], 1)
         turns(hands, *[(0, 0), (0, 0), (0,), (0,), (0,)])
         self.check_told([hands.waiting()[(0,)], hands.told()], [1, [5]])
-        self.check_told([turns(hands, (), (), ()), hands.told(), hands.ending()], [[True] * 3, [5, 6], ("fault", "a", 2)])
+        self.check_told([turns(hands, (), (), ()), hands.told(), hands.ending()],
+            [[True] * 3, [5, 6], ("fault", "a", 2)])
 
 
 class DoneWith(Case):
@@ -216,7 +219,8 @@ class DoneWith(Case):
         hands = Hands(("else", A, B), shelf, room=3)
         turns(hands, (0,), (0,), (1,), (), ())
         self.check_told([hands.told(), shelf.open_ones(), hands.waiting()], [[1], [0, 1], {(0,): 1, (1,): 1}])
-        self.check_told([turns(hands, (), (0,)), shelf.open_ones(), hands.waiting()], [[True, False], [1], {(0,): 0, (1,): 1}])
+        self.check_told([turns(hands, (), (0,)), shelf.open_ones(), hands.waiting()],
+            [[True, False], [1], {(0,): 0, (1,): 1}])
         hands.run(spots_of(("else", A, B)), 9)
         self.check_told([hands.told(), hands.ending()], [[1, 5], ("over",)])
 
@@ -273,7 +277,8 @@ class DoneWith(Case):
         self.check_told([set(hands.waiting().values()), shelf.open_ones(), hands.close()], [{0}, [], None])
 
     def test_close_by_hand_and_twice(self):
-        for plan, names in ((A, None), (("from", "d"), ["d"]), (("merged", ("from", "d"), ("merged", A, ("from", "e"))), ["e", "d"])):
+        for plan, names in ((A, None), (("from", "d"), ["d"]), (("merged", ("from", "d"),
+                ("merged", A, ("from", "e"))), ["e", "d"])):
             shelf = full_shelf(d=Source([4], then=ON, close_fault=True), e=Source([4], then=ON, close_fault=True))
             hands = Hands(plan, shelf, room=2)
             turns(hands, *spots_of(plan), *spots_of(plan))
@@ -286,7 +291,8 @@ class DoneWith(Case):
                 self.check_told(caught.exception.found, names)
                 caught.exception.found.clear()
             log = shelf.log()
-            self.check_told([hands.not_shut(), shelf.open_ones(), hands.told(), hands.ending()], [names or [], [], told, None])
+            self.check_told([hands.not_shut(), shelf.open_ones(), hands.told(), hands.ending()],
+                [names or [], [], told, None])
             self.check_told([set(hands.waiting().values()) - {0}, turns(hands, *spots_of(plan))],
                             [set(), [False] * len(spots_of(plan))])
             self.check_told([hands.close(), hands.run(spots_of(plan), 400), shelf.log()], [None, 0, log])
@@ -296,7 +302,8 @@ class DoneWith(Case):
         plan = ("behind", ("from", "d"), ("from", "e"))
         hands = Hands(plan, shelf)
         hands.run(spots_of(plan), 3)
-        self.check_told([hands.not_shut(), answer(hands.close), hands.not_shut()], [["d"], ("not shut", ["e"]), ["d", "e"]])
+        self.check_told([hands.not_shut(), answer(hands.close), hands.not_shut()],
+            [["d"], ("not shut", ["e"]), ["d", "e"]])
 
 
 class Runs(Case):

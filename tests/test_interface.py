@@ -33,6 +33,15 @@ FUNCTIONS = {
     "orders": {
         "ends_by_turns": "plan, shelf, many, *, room=1", "shows_turns": "plan, shelf, many, thing, *, room=1",
     },
+    "ahead": {
+        "told_ahead": "plan, shelf, *, most=400", "round_of": "plan, shelf, *, most=400",
+        "shows_round": "plan, shelf, thing", "what_matters": "plan, spot",
+    },
+    "rewriting": {
+        "rules_at": "plan, spot", "rewritten": "plan, rule, spot", "cost_of": "plan", "cheapest": "plan, *, most=300",
+        "cheapest_paper": "plan, *, most=300", "shows_cheapest": "plan, thing",
+    },
+    "alike": {"parted_by": "one, other", "shows_parted": "one, other, thing"},
 }
 CLASSES = {
     "errors": {name: {"__init__": "self, " + fields} for name, fields in ERRORS.items()},
@@ -55,7 +64,8 @@ CLASSES = {
         },
         "Turned": {"__init__": "self, deeds"}, "Chosen": {"__init__": "self, tests"},
         "While": {"__init__": "self, tests"}, "Until": {"__init__": "self, tests"}, "First": {"__init__": "self, many"},
-        "Skip": {"__init__": "self, many"}, "Windows": {"__init__": "self, many"}, "Groups": {"__init__": "self, deeds"},
+        "Skip": {"__init__": "self, many"}, "Windows": {"__init__": "self, many"},
+        "Groups": {"__init__": "self, deeds"},
         "Sums": {"__init__": "self"}, "Flat": {},
     },
     "joins": {
@@ -90,6 +100,7 @@ CLASSES = {
         "not_shut": "self", "ending": "self", "waiting": "self", "asked": "self", "run": "self, order, many",
         "copied": "self",
     }},
+    "desk": {"Desk": {"__init__": "self", "say": "self, line"}},
 }
 
 
@@ -98,8 +109,27 @@ def arguments(call):
 
 
 class Interface(unittest.TestCase):
-    def test_most_asks(self):
+    def test_most_asks_and_the_rules(self):
         self.assertEqual(importlib.import_module("greatrows.rows").MOST_ASKS, 200)
+        self.assertEqual(importlib.import_module("greatrows.rewriting").RULES,
+                         ("none", "fuse", "choose", "cut", "pass", "count", "right"))
+
+    def test_each_file_of_the_chapter_is_looked_at(self):
+        self.assertEqual(len(set(FUNCTIONS) | set(CLASSES)), 21)
+
+    def test_families_of_refusals(self):
+        file = importlib.import_module("greatrows.errors")
+        for name, above in (("PlanError", ValueError), ("Missing", KeyError), ("Barred", LookupError)):
+            self.assertEqual(vars(file)[name].__bases__, (above,))
+
+    def test_what_stands_under_another_class(self):
+        for file, above, names in (
+                ("machines", "Machine", "Turned Chosen While Until First Skip Windows Groups Sums Flat"),
+                ("joins", "Machine", "Behind Beside Merged Matched Else"), ("parted", "Reader", "Hand"),
+                ("keeping", "Reader", "Kept")):
+            module = importlib.import_module("greatrows." + file)
+            for name in names.split():
+                self.assertTrue(issubclass(vars(module)[name], vars(module)[above]))
 
     def test_functions(self):
         for file, functions in FUNCTIONS.items():

@@ -118,9 +118,11 @@ class Names(unittest.TestCase):
             "def f(*{}):\n    pass", "def f(**{}):\n    pass", "def f(*, {}=1):\n    pass", "def f():\n    g({}=1)",
             "def f():\n    for {} in []:\n        pass", "def f():\n    return [1 for {} in []]", "from a.b import {}",
             "from a.{} import b", "from a import b as {}", "def f():\n    return lambda {}: 1",
-            "def f():\n    if ({} := 1):\n        pass", "def f():\n    try:\n        pass\n    except E as {}:\n        pass",
+            "def f():\n    if ({} := 1):\n        pass",
+            "def f():\n    try:\n        pass\n    except E as {}:\n        pass",
             "def f(x):\n    match x:\n        case {}:\n            pass",
-            "def f(x):\n    match x:\n        case [*{}]:\n            pass", "def f():\n    def g():\n        nonlocal {}",
+            "def f(x):\n    match x:\n        case [*{}]:\n            pass",
+            "def f():\n    def g():\n        nonlocal {}",
             "class C:\n    __slots__ = ('{}',)", "class C:\n    {} = 1",
         )
         names = [each + "x" for each in BEGINNINGS] + [each for each in BEGINNINGS if each != "_wall"]
@@ -132,7 +134,8 @@ class Names(unittest.TestCase):
                 self.assertEqual(name in barred_in(text), not is_free, text)
 
     def test_names_that_are_free_and_words_that_stand_nowhere(self):
-        for name in ("lay", "_lays", "_kept", "_laws", "_pets", "_enumerated", "_colder", "_records", "_outsider", "_walks"):
+        for name in ("lay", "_lays", "_kept", "_laws", "_pets", "_enumerated", "_colder", "_records", "_outsider",
+                "_walks"):
             self.assertEqual(barred_in(f"def {name}():\n    pass"), [], name)
         for text in ("# a _wall", "'_wall'", "x = '_WallAttr'", "# _WallAttrs"):
             self.assertEqual(len(barred_in(text)), 1, text)

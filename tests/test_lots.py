@@ -98,11 +98,13 @@ class Sizes(Case):
 
     def test_at_the_end_ahead_of_it_and_behind(self):
         tail = [("end", 0), ("shut", 0)]
-        for many, told, over in ((2, [7, 8], False), (3, [7, 8, 9], False), (4, [7, 8, 9], True), (400, [7, 8, 9], True)):
+        for many, told, over in ((2, [7, 8], False), (3, [7, 8, 9], False), (4, [7, 8, 9], True),
+                (400, [7, 8, 9], True)):
             shelf = shelf_of(a=Source([7, 8, 9], page=8))
             lots = Lots(A, shelf)
             self.check_told([lots.lot(many), lots.is_over()], [told, over])
-            self.check_told(shelf.log(), [("open", 0, "a"), ("load", 0, 0), ("ask", 0, 0, len(told)), *(tail if over else [])])
+            self.check_told(shelf.log(), [("open", 0, "a"), ("load", 0, 0), ("ask", 0, 0, len(told)),
+                *(tail if over else [])])
             if many == 2:
                 self.check_told(lots.lot(1), [9])
             for _ in range(2):
@@ -147,7 +149,8 @@ class Calls(Case):
                 (("windows", 3, A), [(at, at + 1, at + 2) for at in range(4)], 6), (("sums", A), [0, 1, 3, 6], 4),
                 (("behind", A, B), [0, 1, 2, 3], 4), (("else", A, B), [0, 1, 2, 3], 4),
                 (("sums", ("skip", 1, ("turned", ON, A))), [2, 5, 9, 14], 5)):
-            self.check_log(plan, shelf_of(a=Source([0], then=ON, page=8), b=Source([])), 4, things, *begin, ("ask", 0, 0, asks))
+            self.check_log(plan, shelf_of(a=Source([0], then=ON, page=8), b=Source([])), 4, things, *begin,
+                ("ask", 0, 0, asks))
         for plan, things, asks in (
                 (("while", (((), "below", 9, True),), A), [0, 1], 2), (("until", NEVER, A), [0, 1], 2),
                 (("groups", (("rest", 9),), A), [(0,), (1,)], 3), (("flat", A), [0, 1], 2)):
@@ -156,7 +159,8 @@ class Calls(Case):
 
     def test_what_lacks_of_a_lot_is_asked_for(self):
         even = ("chosen", (((), "parts", 2, True),), A)
-        self.check_log(even, shelf_of(a=Source([0], then=ON, page=8)), 4, [0, 2, 4, 6], ("open", 0, "a"), ("load", 0, 0),
+        self.check_log(even, shelf_of(a=Source([0], then=ON, page=8)), 4, [0, 2, 4, 6], ("open", 0, "a"),
+            ("load", 0, 0),
                        ("ask", 0, 0, 4), ("ask", 0, 4, 2), ("ask", 0, 6, 1))
 
     def test_across_pages(self):
@@ -166,12 +170,14 @@ class Calls(Case):
         lots = Lots(A, shelf)
         for many in (2, 1, 4):
             lots.lot(many)
-        self.check_told(shelf.log()[2:], [("ask", 0, 0, 2), ("ask", 0, 2, 1), ("load", 0, 1), ("load", 0, 2), ("ask", 0, 3, 4)])
+        self.check_told(shelf.log()[2:], [("ask", 0, 0, 2), ("ask", 0, 2, 1), ("load", 0, 1), ("load", 0, 2),
+            ("ask", 0, 3, 4)])
 
     def test_ahead_of_the_end_of_what_is_sure(self):
         shelf = shelf_of(a=Source([1, 2], page=8), b=Source([3], page=8))
         self.check_log(("behind", A, B), shelf, 9, [1, 2, 3], ("open", 0, "a"), ("load", 0, 0), ("ask", 0, 0, 2),
-                       ("end", 0), ("shut", 0), ("open", 1, "b"), ("load", 1, 0), ("ask", 1, 0, 1), ("end", 1), ("shut", 1))
+                       ("end", 0), ("shut", 0), ("open", 1, "b"), ("load", 1, 0), ("ask", 1, 0, 1), ("end", 1),
+                       ("shut", 1))
 
     def test_needless_inputs_are_shut_at_once_ahead_of_the_told_lot(self):
         shelf = shelf_of(a=Source([1], then=ON, page=8), b=Source([7], then=ON, page=8), c=Source([0], page=8))
@@ -180,7 +186,8 @@ class Calls(Case):
             ("ask", 0, 0, 2), ("shut", 0), ("open", 1, "b"), ("load", 1, 0), ("ask", 1, 0, 1), ("shut", 1))
         shelf = shelf_of(a=Source([1], then=ON, page=8), c=Source([0], page=8))
         self.check_log(("beside", A, C), shelf, 3, [(1, 0)], ("open", 0, "a"), ("load", 0, 0), ("ask", 0, 0, 1),
-                       ("open", 1, "c"), ("load", 1, 0), ("ask", 1, 0, 1), ("ask", 0, 1, 1), ("end", 1), ("shut", 1), ("shut", 0))
+                       ("open", 1, "c"), ("load", 1, 0), ("ask", 1, 0, 1), ("ask", 0, 1, 1), ("end", 1), ("shut", 1),
+                       ("shut", 0))
 
 
 class Faults(Case):

@@ -56,7 +56,8 @@ def all_ends(plan, shelf, many, room):
         for spot in order:
             hands.turn(spot)
         stand = repr([hands.told, hands.ending, hands.asked(), [
-            (hand.row, hand.met, hand.does_nothing, hand.machine and hand.machine.stands()) for hand in hands.hands.values()]])
+            (hand.row, hand.met, hand.does_nothing,
+            hand.machine and hand.machine.stands()) for hand in hands.hands.values()]])
         if stand in seen:
             continue
         seen.add(stand)
@@ -129,7 +130,8 @@ class Ends(Case):
         self.check_told(ends_by_turns(plan, Shelf(), 2, room=2), ([([0, 1], None)], [(0,), (), (), (0,), (), ()]))
         # With a room of 1 the leaf can't ask twice ahead.
         ahead = [(0,), (0,), (), (), (), ()]
-        self.check_told([shows_turns(plan, Shelf(), 2, ahead), shows_turns(plan, Shelf(), 2, ahead, room=2)], [False, True])
+        self.check_told([shows_turns(plan, Shelf(), 2, ahead), shows_turns(plan, Shelf(), 2, ahead, room=2)],
+            [False, True])
 
     def test_among_several_shortest_orders_the_first(self):
         plan = ("beside", COUNT, COUNT)
@@ -161,7 +163,8 @@ class Shown(Case):
     def test_too_long_too_short_and_a_turn_that_does_nothing(self):
         plan = ("sums", COUNT)
         order = [(0,), (), ()]
-        for thing, told in ((order, True), (tuple(order), True), (order[:2], False), ([*order, (0,)], False), ([], False),
+        for thing, told in ((order, True), (tuple(order), True), (order[:2], False), ([*order, (0,)], False),
+                ([], False),
                             ([(), *order], False), ([(0,), (0,), (), ()], False), ([(0,), (), (0,), ()], True)):
             before = shown(thing)
             self.assertIs(shows_turns(plan, Shelf(), 1, thing), told)
