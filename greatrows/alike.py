@@ -1,9 +1,9 @@
 """Plans that are alike for all small sources, and the least contents of sources that part those which aren't."""
 
-from greatrows.errors import NoPlan, TooMuch
+from greatrows.errors import TooMuch
 from greatrows.nodes import leaves_in
 from greatrows.plain import all_told
-from greatrows.plans import is_plan, names_in
+from greatrows.plans import names_in
 from greatrows.shelves import Shelf
 from greatrows.sources import Source
 from greatrows.things import is_whole
@@ -63,9 +63,6 @@ class Account:
 
 def _names_of(one, other):
     """The names in two plans, sorted."""
-    for plan in (one, other):
-        if not is_plan(plan):
-            raise NoPlan(plan)
     names = sorted(set(names_in(one) + names_in(other)))
     if len(names) > MOST_NAMES:
         raise TooMuch(len(names))

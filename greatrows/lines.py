@@ -72,8 +72,8 @@ def _read_faults(word):
         return {}
     faults = {}
     for text in word.split(","):
-        at, sign, many = text.partition(":")
-        if not sign or number_in(at) is None or (many != "all" and number_in(many) is None):
+        at, _, many = text.partition(":")
+        if number_in(at) is None or (many != "all" and number_in(many) is None):
             return None
         faults[number_in(at)] = number_in(many)
     return faults

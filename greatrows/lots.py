@@ -44,7 +44,7 @@ class Lots:
         things, ending = self._whole_lot(many)
         if ending is not None and ending[0] != WAITS:
             self._finish()
-        if ending is not None and not things:
+        if not things:
             refuse(ending)
         self._waiting = ending
         self._many += len(things)

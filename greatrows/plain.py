@@ -38,7 +38,7 @@ def all_told(plan, shelf, many):
     asks = min(many, len(whole.things) + 1)
     needs = {spot: things for spot, things in _needs_of(whole, (), asks)}
     if len(whole.things) < many:
-        return whole.things, whole.ending, needs
+        return whole.things, whole.word, needs
     return whole.things[:many], "more", needs
 
 
@@ -50,15 +50,15 @@ def check_asked(plan, shelf, many):
 
 
 class Part:
-    """A part of a plan: all things that it tells, and what its ending is behind them.
+    """A part of a plan: all things that it tells, and the word of its ending behind them.
 
     `asks` has, for each number of its asks, how often it asks each of its inputs for them. There is one more
     of them than there are things: the last one meets the ending.
     """
 
-    def __init__(self, pairs, ending, last, parts):
+    def __init__(self, pairs, word, last, parts):
         self.things = [thing for thing, _ in pairs]
-        self.ending = ending
+        self.word = word
         self.parts = parts
         self.asks = [(0,) * len(parts), *[asks for _, asks in pairs], last]
 
@@ -67,7 +67,7 @@ def _whole_of(plan, shelf, many):
     """The whole plan, by as many things of each leaf as tell so many things, or its ending."""
     most = FEW_OF_LEAF
     whole = _part_of(plan, shelf, most)
-    while whole.ending == OPEN and len(whole.things) < many and most < MOST_OF_LEAF:
+    while whole.word == OPEN and len(whole.things) < many and most < MOST_OF_LEAF:
         most = most * 8
         whole = _part_of(plan, shelf, most)
     return whole
@@ -87,11 +87,11 @@ def _part_of(plan, shelf, most):
     """A part of a plan, by at most so many things of each leaf."""
     parts = [_part_of(other, shelf, most) for other in inputs_of(plan)]
     if INPUTS[plan[0]] == 0:
-        things, ending = _count_told(plan, most) if plan[0] == "count" else _source_told(plan, shelf, most)
-        return Part([(thing, ()) for thing in things], ending, (), parts)
+        things, word = _count_told(plan, most) if plan[0] == "count" else _source_told(plan, shelf, most)
+        return Part([(thing, ()) for thing in things], word, (), parts)
     reckon = RECKONERS[plan[0]]
-    pairs, ending, last = reckon(plan, *parts)
-    return Part(pairs, ending, last, parts)
+    pairs, word, last = reckon(plan, *parts)
+    return Part(pairs, word, last, parts)
 
 
 def _count_told(plan, most):
@@ -123,7 +123,7 @@ def _each_told(things):
 
 def _all_told(things, part):
     """What a reckoner tells of a plan that needs its input up to the ending."""
-    return things, part.ending, (len(part.things) + 1,)
+    return things, part.word, (len(part.things) + 1,)
 
 
 def _turned(plan, part):
@@ -180,7 +180,7 @@ def _groups(plan, part):
         if len(kept) == MOST_OF_GROUP:
             pairs.append((tuple(kept), asks))
             kept = []
-    if kept and part.ending == OVER:
+    if kept and part.word == OVER:
         pairs.append((tuple(kept), (len(part.things) + 1,)))
     return _all_told(pairs, part)
 
@@ -209,14 +209,14 @@ def _else(_, one, other):
     return _followed(one, other, FAULT)
 
 
-def _followed(one, other, ending):
-    """All of the one, and behind this ending of it all of the other."""
+def _followed(one, other, word):
+    """All of the one, and where it ends with this word, all of the other."""
     asks = len(one.things) + 1
     pairs = [(thing, (at + 1, 0)) for at, thing in enumerate(one.things)]
-    if one.ending != ending:
-        return pairs, one.ending, (asks, 0)
+    if one.word != word:
+        return pairs, one.word, (asks, 0)
     pairs.extend([(thing, (asks, at + 1)) for at, thing in enumerate(other.things)])
-    return pairs, other.ending, (asks, len(other.things) + 1)
+    return pairs, other.word, (asks, len(other.things) + 1)
 
 
 def _beside(_, one, other):
@@ -224,8 +224,8 @@ def _beside(_, one, other):
     asks = len(pairs) + 1
     # Input 0 is asked first, and its ending comes ahead of that of input 1.
     if len(one.things) == len(pairs):
-        return pairs, one.ending, (asks, asks - 1)
-    return pairs, other.ending, (asks, asks)
+        return pairs, one.word, (asks, asks - 1)
+    return pairs, other.word, (asks, asks)
 
 
 def _merged(_, one, other):
@@ -235,11 +235,11 @@ def _merged(_, one, other):
     first, second = 0, 0
     while True:
         asks = (first + 1, second + 1)
-        if first == len(ones) and one.ending != OVER:
+        if first == len(ones) and one.word != OVER:
             # Input 1 is asked ahead of this ending just where something was told.
-            return pairs, one.ending, asks if pairs else (1, 0)
-        if second == len(others) and other.ending != OVER:
-            return pairs, other.ending, asks
+            return pairs, one.word, asks if pairs else (1, 0)
+        if second == len(others) and other.word != OVER:
+            return pairs, other.word, asks
         if first == len(ones) and second == len(others):
             return pairs, OVER, asks
         if second == len(others) or (first < len(ones) and ones[first] <= others[second]):
@@ -256,13 +256,13 @@ def _matched(plan, one, other):
     if len(kept) > room:
         return [], FAULT, (0, room + 1)
     asks = len(kept) + 1
-    if other.ending != OVER or not kept:
-        return [], other.ending, (0, asks)
+    if other.word != OVER or not kept:
+        return [], other.word, (0, asks)
     pairs = []
     for at, thing in enumerate(one.things):
         key = thing_turned(deeds, thing)
         pairs.extend([((thing, each), (at + 1, asks)) for each in kept if thing_turned(deeds, each) == key])
-    return pairs, one.ending, (len(one.things) + 1, asks)
+    return pairs, one.word, (len(one.things) + 1, asks)
 
 
 def _holds(plan, thing):

@@ -20,7 +20,7 @@ def rewritten(plan, rule, spot):
     """The plan, made otherwise by a rule at a spot."""
     if not is_plan(plan):
         raise NoPlan(plan)
-    if not isinstance(rule, str) or rule not in RULES:
+    if rule not in RULES:
         raise NoWord(rule)
     made = _made(rule, part_at(plan, spot))
     if made is None:
@@ -65,11 +65,11 @@ def shows_cheapest(plan, thing):
     if not all([is_plan(other) for other in plans]):
         return False
     texts = {plan_text(other): True for other in plans}
-    if len(texts) < len(plans) or plan_text(plan) not in texts or plan_text(best) not in texts:
+    if len(texts) < len(plans) or plan_text(plan) not in texts or not _leads(plan, way, best):
         return False
-    if min([cost_of(other) for other in plans]) < cost_of(best) or not _leads(plan, way, best):
+    if not all([plan_text(made) in texts for other in plans for _, made in _steps_from(other)]):
         return False
-    return all([plan_text(made) in texts for other in plans for _, made in _steps_from(other)])
+    return cost_of(best) == min([cost_of(other) for other in plans])
 
 
 def _made(rule, node):

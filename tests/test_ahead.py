@@ -58,6 +58,12 @@ class Whole(Case):
         for chance, plan, shelf in long_runs(60, seed=114):
             self.check_ahead(plan, shelf, chance.choice((100, 400)))
 
+    def test_numbers_of_many_figures(self):
+        shelf = shelf_of(a=Source([7], then=(("times", 10 ** 29), ("add", 1))))
+        for plan in (("merged", A, COUNT), ("sums", ("merged", A, A)), ("windows", 2, ("sums", ("merged", A, COUNT)))):
+            self.assertEqual(told_ahead(plan, shelf, most=500)[0], "open")
+        self.check_ahead(("merged", A, COUNT), shelf, 100)
+
     def test_every_word(self):
         for plan in [*PLANS[::3], *EDGES]:
             shelf = shelf_of(**{name: Source([1, 2, 3], then=(("add", 2),), faults={9: 3}) for name in names_in(plan)})

@@ -119,6 +119,10 @@ class Parted(Case):
         self.check_parted(A, B, {"a": [], "b": [0]})
         self.check_parted(("behind", A, B), ("behind", B, A), {"a": [0], "b": [1]})
         self.check_parted(("merged", A, B), ("merged", B, A), {"a": [1], "b": [1, 0]})
+        # Fewest numbers together come first, also where those of the first name are more.
+        self.check_parted(("behind", A, ("skip", 1, B)), ("skip", 60, ("behind", A, B)), {"a": [0], "b": []})
+        self.check_parted(("behind", ("skip", 1, A), ("skip", 2, B)), ("skip", 60, ("behind", A, B)),
+            {"a": [0, 0], "b": []})
         self.check_parted(("beside", ("from", "z"), A), ("beside", ("from", "z"), ("turned", ON, A)),
             {"a": [0], "z": [0]})
         self.check_parted(("behind", A, ("behind", B, A)), ("behind", ("behind", A, B), A), None)

@@ -190,8 +190,7 @@ class Form(unittest.TestCase):
                     ast.Call) and parents[node].func is node):
                 # What isn't called is no method, but an attribute that some class stores.
                 self.assertIn(node.attr, stored, f"{where} {node.attr}")
-        # One name is both: that of a reckoned part, and what Hands tell.
-        self.assertLessEqual(methods & stored, {"ending"})
+        self.assertEqual(methods & stored, set())
 
     def test_each_own_method_that_is_called_without_one_has_no_star(self):
         for where, node, parents in self.each(ast.Call):
