@@ -84,6 +84,7 @@ class Hands:
         if not is_whole(many, 0, MOST_IN_ALL):
             raise NoNumber(many)
         did = 0
+        # Turns one behind the other that did nothing; as many as a going has are of all spots, wherever they began.
         idle = 0
         at = 0
         while not self.has_told(many) and did < MOST_TURNS and idle < len(order):
@@ -123,10 +124,10 @@ class Hands:
         return str((self._things, self._ending, machines, list(self._rows.values()), resting, asked))
 
     def _is_order(self, thing):
-        """Whether it is a list that has each spot once."""
+        """Whether it is a list of spots that has each, once or more often."""
         if not isinstance(thing, (list, tuple)) or not all([is_spot_in(self._spots, spot) for spot in thing]):
             return False
-        return sorted(thing) == self._spots
+        return all([spot in thing for spot in self._spots])
 
     def _has_room(self, spot):
         return not spot or len(self._rows[spot]) < self._room

@@ -71,6 +71,13 @@ def by_things(log):
     return rows, calls
 
 
+def drawn_order(chance, spots):
+    """An order of turns that has each spot, and perhaps some more than once; a list or a tuple."""
+    order = [*spots, *(chance.choice(spots) for _ in range(chance.choice((0, 0, 1, 2, 8, 30))))]
+    chance.shuffle(order)
+    return chance.choice((order, tuple(order)))
+
+
 def loads(log):
     return [row for row in log if row[0] == "load"]
 

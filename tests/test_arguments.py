@@ -71,8 +71,8 @@ NEW_NAMES = (errors.NoName, is_name)
 NAMINGS = (errors.NoList, lambda thing: isinstance(thing, dict) and all(is_name(one) and is_name(other) for one,
     other in thing.items()))
 READINGS = (errors.NotOpen, lambda thing: is_whole(thing, 0, 0))
-ORDERS = (errors.NoOrder, lambda thing: is_listed(thing) and shown(sorted(thing,
-    key=shown)) == shown(sorted(spots_of(PLAN), key=shown)))
+ORDERS = (errors.NoOrder, lambda thing: is_listed(thing) and {shown(spot) for spot in thing} == {
+    shown(spot) for spot in spots_of(PLAN)})
 LINES = (errors.NoLine, lambda thing: thing in ("names",))
 MARKS = (errors.NotThere, lambda thing: is_whole(thing, 0, 0))
 

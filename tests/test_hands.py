@@ -12,7 +12,7 @@ from greatrows.sources import Source
 from greatrows.things import is_whole
 from helpers import Case, answer, odd_things, shelf_of, shown
 from made_plans import EDGES, PLANS
-from made_runs import NEVER, ON
+from made_runs import NEVER, ON, drawn_order
 from model import runs
 from model_hands import ModelHands
 
@@ -308,9 +308,9 @@ class DoneWith(Case):
 
 class Runs(Case):
     def test_by_an_order_as_by_turns(self):
-        for chance, plan, shelf in runs(300, seed=104):
-            order = spots_of(plan)
-            chance.shuffle(order)
+        for chance, plan, shelf in runs(500, seed=104):
+            order = drawn_order(chance, spots_of(plan))
+            before = shown(order)
             many = chance.choice((0, 1, 2, 5, 20))
             room = chance.randint(1, 4)
             one, other = Hands(plan, shelf.copied(), room=room), Hands(plan, shelf.copied(), room=room)
@@ -322,7 +322,46 @@ class Runs(Case):
                     if did < 2000 and len(one.told()) < many and one.ending() is None and one.turn(spot):
                         did += 1
                         going = True
-            self.check_told([other.run(chance.choice((order, tuple(order))), many), state(other)], [did, state(one)])
+            self.check_told([other.run(order, many), state(other), shown(order)], [did, state(one), before])
+
+    def test_by_any_order_what_the_plain_reckoner_tells(self):
+        for chance, plan, shelf in runs(300, seed=1042):
+            many = chance.choice((0, 1, 3, 8))
+            things, word = plain_told(plan, shelf, many)
+            if word == "open":
+                continue
+            hands = Hands(plan, shelf, room=chance.randint(1, 4))
+            # What asks for long is told by the runs behind the first one.
+            while hands.run(drawn_order(chance, spots_of(plan)), many) == 2000:
+                pass
+            self.check_told(hands.told(), things)
+            self.assertEqual(hands.ending() is None, word == "more")
+
+    def test_each_spot_has_turns_as_often_as_it_stands_in_the_order(self):
+        plan = ("turned", ON, A)
+        # Until one thing is told: how many turns did anything, and how many things came of the leaf.
+        for order, did, asked in (
+                ([(0,), ()], 4, 2), ([(0,), (0,), ()], 5, 3), ([(0,), (0,), (0,), ()], 5, 3),
+                ([(0,), (), ()], 3, 1), ([(), (0,), ()], 3, 1), ([(), (), (0,), (0,)], 4, 2)):
+            for made in (list, tuple):
+                hands = Hands(plan, full_shelf(), room=2)
+                self.check_told([hands.run(made(order), 1), hands.told(), hands.asked()], [did, [2], {(0,): asked}])
+
+    def test_the_only_spot_more_than_once(self):
+        for order in ([()], [(), ()], ((), (), ()), [()] * 100):
+            hands = Hands(("count", 1, 1, 3), Shelf())
+            self.check_told([hands.run(order, 0), hands.told()], [0, []])
+            self.check_told([hands.run(order, 2), hands.told(), hands.ending()], [2, [1, 2], None])
+            self.check_told([hands.run(order=order, many=9), hands.told(), hands.ending()], [2, [1, 2, 3], ("over",)])
+
+    def test_a_whole_going_is_through_all_of_the_order(self):
+        # As many turns as there are spots do nothing, and more, but not a whole going.
+        for order in ([(), (), (0,)], [*[()] * 99, (0,)], [(0,), *[()] * 98, (0,)], [*[(0,)] * 99, ()]):
+            hands = Hands(("sums", COUNT), Shelf())
+            hands.run(order, 3)
+            self.check_told([hands.told(), hands.ending()], [[0, 1, 3], None])
+            hands.close()
+            self.check_told(hands.run(order, 9), 0)
 
     def test_so_many_things_in_all(self):
         hands = Hands(COUNT, Shelf())
@@ -344,9 +383,10 @@ class Runs(Case):
 
     def test_2000_turns(self):
         plan = ("chosen", NEVER, COUNT)
-        hands = Hands(plan, Shelf())
-        for at in range(1, 4):
-            self.check_told([hands.run([(), (0,)], 1), hands.asked(), hands.ending()], [2000, {(0,): 1000 * at}, None])
+        for order in ([(), (0,)], [(), (), (0,), (0,)], [*[()] * 50, *[(0,)] * 50]):
+            hands = Hands(plan, Shelf())
+            for at in range(1, 4):
+                self.check_told([hands.run(order, 1), hands.asked(), hands.ending()], [2000, {(0,): 1000 * at}, None])
 
     def test_orders_that_are_none(self):
         plan = ("merged", A, ("sums", B))
@@ -354,9 +394,11 @@ class Runs(Case):
         spots = [(), (0,), (1,), (1, 0)]
         before = state(hands)
         wrong = [
-            [], spots[:3], [*spots, (1, 0)], [*spots, ()], [(), (0,), (1,), (1,)], [(), (0,), (1,), (0, 0)],
+            [], (), spots[:3], [(), (0,), (1,), (1,)], [(), (0,), (1,), (0, 0)], [(1, 0), (1,), (1,), (0,), (0,)],
             [(), (False,), (1,), (1, 0)], [(), (0,), (True,), (1, 0)], [(), [0], (1,), (1, 0)], [(), (0,), (1,), None],
-            [(), (0,), 1, (1, 0)], {(): 0, (0,): 1, (1,): 2, (1, 0): 3}, *odd_things(),
+            [(), (0,), 1, (1, 0)], {(): 0, (0,): 1, (1,): 2, (1, 0): 3}, *[spots[:3] * 33],
+            *[[*spots, other] for other in ((0, 0), (2,), (False,), (True, 0), [0], [], None, 0, "", spots)],
+            *[(other, *spots) for other in ((1, 1), (True,), (1, False), [], False, {})], [spots], *odd_things(),
         ]
         for thing in wrong:
             for many in (5, -1, None, 401):
@@ -367,7 +409,8 @@ class Runs(Case):
                 self.check_refused(NoNumber, {"found": many}, hands.run, spots, many)
                 self.check_refused(NoNumber, {"found": many}, hands.run, many=many, order=spots)
         self.assertEqual(state(hands), before)
-        self.check_told(hands.run([(1, 0), (1,), (0,), ()], 1) > 0, True)
+        for many, order in enumerate((spots[::-1], [*spots, (1, 0)], (*spots, ()), spots * 25), start=1):
+            self.check_told([hands.run(order, many) > 0, len(hands.told())], [True, many])
 
 
 class Copies(Case):

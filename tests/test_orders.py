@@ -171,6 +171,13 @@ class Shown(Case):
             self.assertIs(shows_turns(room=1, thing=thing, many=1, shelf=Shelf(), plan=plan), told)
             self.assertEqual(shown(thing), before)
 
+    def test_a_spot_may_lack_and_may_stand_more_than_once(self):
+        plan = ("behind", COUNT, COUNT)
+        for many, order in ((1, [(0,), (), ()]), (2, [(0,), (), (), (0,), (), ()]), (1, [(1,), (0,), (), (0,), ()])):
+            self.assertIs(shows_turns(plan, Shelf(), many, order), True)
+        self.assertIs(shows_turns(plan, Shelf(), 1, [(0,), (), (), (1,)]), False)
+        self.check_told(ends_by_turns(plan, Shelf(), 1), ([([0], None)], [(0,), (), ()]))
+
     def test_behind_the_ending(self):
         shelf = shelf_of(a=Source([]))
         for thing, told in (([()], True), ([], False), ([(), ()], False)):

@@ -21,7 +21,7 @@ from greatrows.shelves import Shelf
 from greatrows.sources import Source
 from helpers import Case, answer, shelf_of
 from made_plans import EDGES, PLANS
-from made_runs import ON
+from made_runs import ON, drawn_order
 from model import DEEDS, TESTS, runs
 
 MANY = 12
@@ -68,6 +68,11 @@ def by_hands(chance, hands, spots, many):
     return None
 
 
+def by_order(hands, order, many):
+    """Likewise, by hands in an order of turns, again and again."""
+    return None if hands.run(order, many) == 2000 else (hands.told(), hands.ending())
+
+
 def moved(names):
     return {name: {"a": "z", "b": "a", "c": "b"}.get(name, name + "x") for name in names}
 
@@ -89,9 +94,11 @@ class Promise(Case):
             self.check_told(things, expected[0])
             self.assertEqual(word, {None: "more", "over": "over"}.get(expected[1] and expected[1][0], "fault"))
             self.check_told(by_lots(chance, Lots(plan, shelf.copied()), MANY), expected)
-            came = by_hands(chance, Hands(plan, shelf.copied(), room=chance.randint(1, 4)), spots_of(plan), MANY)
-            if came is not None:
-                self.check_told(came, expected)
+            hands = [Hands(plan, shelf.copied(), room=chance.randint(1, 4)) for _ in range(2)]
+            for came in (by_hands(chance, hands[0], spots_of(plan), MANY),
+                         by_order(hands[1], drawn_order(chance, spots_of(plan)), MANY)):
+                if came is not None:
+                    self.check_told(came, expected)
         self.assertGreater(told, 500)
 
     def test_in_every_order_of_turns_of_small_plans(self):
